@@ -1,0 +1,1 @@
+"""Samesteps: rooms with marked steps, alike or told apart."""
