@@ -49,10 +49,20 @@ def check_net(net):
         seen.add(step)
 
 
-def check_room(net, room):
-    """Refuse what is no room of a net that has been checked."""
-    if not is_room(room, net[0]):
+def check_rooms(net, one, other):
+    """Refuse what is no net, then what are no two rooms of it."""
+    check_net(net)
+    if not (is_room(one, net[0]) and is_room(other, net[0])):
         raise BadRoom("no room of the net")
+
+
+def leads_of(net):
+    """For each room of a checked net its steps, each as its mark and the room to which it leads."""
+    many, steps = net
+    leads = [[] for _ in range(many)]
+    for start, mark, end in steps:
+        leads[start].append((mark, end))
+    return leads
 
 
 def beside(one, other):

@@ -1,38 +1,37 @@
 """Rounds: rooms parted round by round, by where their steps lead."""
 
-from samesteps.nets import check_net, check_room
+from samesteps.nets import check_net, check_rooms, leads_of
 
 
-def leads_of(ahead, steps):
-    """For each room the marks of its steps, each with the part of the round ahead it leads to."""
-    leads = [[] for _ in ahead]
-    for start, mark, end in steps:
-        leads[start].append((mark, ahead[end]))
-    return leads
-
-
-def round_behind(ahead, steps):
+def round_behind(ahead, leads):
     """The round that follows on the one ahead."""
-    leads = leads_of(ahead, steps)
     numbers = {}
     parts = []
     for room, part in enumerate(ahead):
         # Several steps of one mark to one part count as one, in whatever order they stand.
-        key = (part, tuple(sorted(set(leads[room]))))
-        parts.append(numbers.setdefault(key, len(numbers)))
+        reached = sorted({(mark, ahead[end]) for mark, end in leads[room]})
+        parts.append(numbers.setdefault((part, tuple(reached)), len(numbers)))
     return parts
 
 
 def rounds_of(net):
     """The rounds of a net that has been checked."""
-    many, steps = net
-    told = [[0] * many]
-    behind = round_behind(told[-1], steps)
+    leads = leads_of(net)
+    told = [[0] * net[0]]
+    behind = round_behind(told[-1], leads)
     # Parts are numbered by their least rooms, so rounds that part alike are equal lists.
     while behind != told[-1]:
         told.append(behind)
-        behind = round_behind(behind, steps)
+        behind = round_behind(behind, leads)
     return told
+
+
+def first_parting(told, one, other):
+    """The number of the first of the told rounds that parts the two rooms, None of alike ones."""
+    for number, parts in enumerate(told):
+        if parts[one] != parts[other]:
+            return number
+    return None
 
 
 def rounds(net):
@@ -43,13 +42,8 @@ def rounds(net):
 
 def parted_at(net, one, other):
     """The number of the first round that parts the two rooms, None of alike ones."""
-    check_net(net)
-    check_room(net, one)
-    check_room(net, other)
-    for number, parts in enumerate(rounds_of(net)):
-        if parts[one] != parts[other]:
-            return number
-    return None
+    check_rooms(net, one, other)
+    return first_parting(rounds_of(net), one, other)
 
 
 def alike(net, one, other):

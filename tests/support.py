@@ -115,3 +115,65 @@ def full_steps(many, count):
     """So many unlike steps between the rooms."""
     every = [(a, m, b) for m in range(100) for a in range(many) for b in range(many)]
     return every[:count]
+
+
+def small_nets(count):
+    """Nets of few rooms and steps, so that many of their rooms are alike."""
+    return [net for net in map(any_net, range(10 * count)) if 0 < net[0] <= 4][:count]
+
+
+def every_step_onward(many):
+    """Each room has a step of one mark to each later one: sayings could branch again and again."""
+    return many, [(a, 0, b) for a in range(many) for b in range(a + 1, many)]
+
+
+def every_pair(net):
+    """All tuples of two rooms, those of a room and itself, too."""
+    return [(a, b) for a in range(net[0]) for b in range(net[0])]
+
+
+def any_saying(seed, length):
+    """A saying that depends on the seed alone, with the marks that any_net has."""
+    chance = random.Random(seed)
+    rows = []
+    for at in range(length):
+        kind = chance.choice(["not", "and", "may", "must", "may"]) if at else "yes"
+        if kind == "yes" or chance.random() < 0.03:
+            rows.append(("yes",))
+        elif kind == "not":
+            rows.append(("not", chance.randrange(at)))
+        elif kind == "and":
+            rows.append(("and", tuple(chance.choices(range(at), k=chance.randrange(4)))))
+        else:
+            rows.append((kind, chance.choice([0, 99, 7, 3, 50]), chance.randrange(at)))
+    return rows
+
+
+def so_by_the_words(net, rows):
+    """For each row the set of rooms of which it is so, told word by word."""
+    many, steps = net
+    so = []
+
+    def led(room, mark):
+        return [end for start, by, end in steps if start == room and by == mark]
+
+    for row in rows:
+        tests = {
+            "yes": lambda room: True,
+            "not": lambda room: room not in so[row[1]],
+            "and": lambda room: all(room in so[number] for number in row[1]),
+            "may": lambda room: any(end in so[row[2]] for end in led(room, row[1])),
+            "must": lambda room: all(end in so[row[2]] for end in led(room, row[1])),
+        }
+        so.append({room for room in range(many) if tests[row[0]](room)})
+    return so
+
+
+def depths_by_the_words(rows):
+    """How deep each row is, told word by word."""
+    depths = []
+    for row in rows:
+        over = {"yes": (), "not": row[1:], "and": row[-1], "may": row[2:], "must": row[2:]}[row[0]]
+        deepest = max((depths[number] for number in over), default=0)
+        depths.append(deepest + (row[0] in ("may", "must")))
+    return depths

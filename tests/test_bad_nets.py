@@ -3,8 +3,12 @@
 import unittest
 
 from samesteps.errors import BadNet
+from samesteps.least import least
 from samesteps.nets import beside
+from samesteps.pairs import closed_pairs, is_closed
 from samesteps.rounds import alike, parted_at, rounds
+from samesteps.sayings import worked
+from samesteps.telling import saying_for
 from support import full_steps, leaves_as_was, refused_at, things, things_but
 
 GOOD = (2, [(0, 5, 1)])
@@ -18,6 +22,17 @@ CALLS = {
     "parted_at of no rooms": lambda net: parted_at(net, "x", None),
     "alike": lambda net: alike(net, 0, 1),
     "alike of no rooms": lambda net: alike(net, -1, True),
+    "is_closed": lambda net: is_closed(net, [(0, 0)]),
+    "is_closed of no pairs": lambda net: is_closed(net, None),
+    "is_closed of no rooms": lambda net: is_closed(net, [(0, -1), None]),
+    "closed_pairs": lambda net: closed_pairs(net, 0, 1),
+    "closed_pairs of no rooms": lambda net: closed_pairs(net, None, 30),
+    "worked": lambda net: worked(net, [("yes",)]),
+    "worked of no saying": lambda net: worked(net, None),
+    "worked of no row": lambda net: worked(net, [("yes",), None]),
+    "saying_for": lambda net: saying_for(net, 0, 1),
+    "saying_for of no rooms": lambda net: saying_for(net, [], False),
+    "least": least,
 }
 
 
@@ -31,9 +46,14 @@ class TestBadNets(unittest.TestCase):
         leaves_as_was(self, rounds, net)
         leaves_as_was(self, beside, net, (0, []))
         leaves_as_was(self, beside, (0, []), net)
+        leaves_as_was(self, least, net)
+        self.assertIs(leaves_as_was(self, is_closed, net, []), True)
+        self.assertEqual(leaves_as_was(self, worked, net, [("yes",)]), [list(range(net[0]))])
         if net[0] > 0:
             self.assertIs(leaves_as_was(self, alike, net, 0, 0), True)
             self.assertIsNone(leaves_as_was(self, parted_at, net, 0, 0))
+            self.assertIn((0, 0), leaves_as_was(self, closed_pairs, net, 0, 0))
+            self.assertIsNone(leaves_as_was(self, saying_for, net, 0, 0))
 
     def test_no_tuple_of_two(self):
         for thing in things():
